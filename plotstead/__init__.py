@@ -1,0 +1,1 @@
+"""Plotstead: plots on a grid of stakes, counted, cut, and put together."""

@@ -1,0 +1,85 @@
+"""The rules of LANGUAGE.md that can be seen without a reader; the others are kept by hand."""
+
+import ast
+import builtins
+import pathlib
+import re
+import unittest
+
+PACKAGE = pathlib.Path(__file__).resolve().parent.parent / "plotstead"
+FILES = sorted(path for path in PACKAGE.rglob("*") if path.is_file() and path.suffix != ".pyc")
+
+OWN_NAMES = """
+    len range enumerate zip min max sum abs sorted reversed int str bool list tuple dict set frozenset isinstance
+    ord repr any all divmod Exception ValueError TypeError KeyError IndexError LookupError ZeroDivisionError
+    ArithmeticError OverflowError RuntimeError NotImplementedError AttributeError StopIteration
+""".split()
+NODES_LEFT_OUT = (
+    ast.With, ast.Match, ast.Delete, ast.Global, ast.Nonlocal, ast.Assert, ast.Yield, ast.YieldFrom, ast.Await,
+    ast.AsyncFunctionDef, ast.AsyncFor, ast.AsyncWith, ast.Div, ast.SetComp, ast.DictComp, ast.GeneratorExp,
+    ast.NamedExpr, ast.Starred, ast.Import,
+)
+WORDS_LEFT_OUT = """
+    type typing typing_extensions enum Enum IntEnum StrEnum Flag IntFlag Generic Protocol ABC ABCMeta namedtuple
+    NamedTuple TypedDict TYPE_CHECKING abstractmethod
+""".split()
+
+
+class Language(unittest.TestCase):
+    def walk(self):
+        for path in FILES:
+            text = path.read_text(encoding="utf-8")
+            for node in ast.walk(ast.parse(text)):
+                yield f"{path.name}:{getattr(node, 'lineno', 0)}", node
+
+    def test_only_plainly_named_files_lie_in_the_package(self):
+        self.assertIn(PACKAGE / "__init__.py", FILES)
+        for path in FILES:
+            self.assertRegex(path.name, r"\A([a-z][a-z0-9_]*|__init__|__main__)\.py\Z")
+
+    def test_signs_words_and_sizes(self):
+        for path in FILES:
+            text = path.read_bytes().decode("utf-8")
+            self.assertRegex(text, r"\A[ -~\n]*\Z", path.name)
+            lines = text.split("\n")
+            self.assertLessEqual(len(lines), 401, path.name)
+            self.assertLessEqual(max(map(len, lines)), 120, path.name)
+            for word in WORDS_LEFT_OUT:
+                self.assertIsNone(re.search(rf"\b{word}\b", text), f"{path.name}: {word}")
+
+    def test_imports_draw_from_the_package_alone(self):
+        for place, node in self.walk():
+            if isinstance(node, ast.ImportFrom):
+                self.assertEqual(node.level, 0, place)
+                self.assertRegex(node.module, r"\Aplotstead\.", place)
+                self.assertNotIn("*", [alias.name for alias in node.names], place)
+
+    def test_functions_are_short_and_plain(self):
+        for place, node in self.walk():
+            if isinstance(node, ast.FunctionDef):
+                self.assertLessEqual(node.end_lineno - node.lineno + 1, 40, place)
+                self.assertEqual(node.decorator_list, [], place)
+                plain = node.args
+                self.assertFalse(plain.vararg or plain.kwarg or plain.kwonlyargs or plain.posonlyargs, place)
+
+    def test_nothing_stands_there_that_is_left_out(self):
+        for place, node in self.walk():
+            self.assertNotIsInstance(node, NODES_LEFT_OUT, place)
+            if isinstance(node, ast.Constant):
+                self.assertNotIsInstance(node.value, (float, complex, bytes), place)
+            if isinstance(node, (ast.For, ast.While)):
+                self.assertEqual(node.orelse, [], place)
+
+    def test_names_are_plain_and_of_pythons_own_only_those_allowed(self):
+        for place, node in self.walk():
+            if isinstance(node, ast.Name):
+                self.assertFalse(node.id.startswith("_"), place)
+                if hasattr(builtins, node.id):
+                    self.assertIn(node.id, OWN_NAMES, place)
+                    self.assertIsInstance(node.ctx, ast.Load, place)
+            if isinstance(node, ast.arg):
+                self.assertFalse(node.arg.startswith("_") or hasattr(builtins, node.arg), place)
+
+
+if __name__ == "__main__":
+    unittest.main()
