@@ -2,8 +2,7 @@
 
 from plotstead.turns import sides_meet, turn, turns_left
 
-LEAST_NUMBER = -100
-GREATEST_NUMBER = 100
+FARTHEST = 100
 FEWEST_CORNERS = 3
 MOST_CORNERS = 12
 
@@ -14,7 +13,7 @@ def is_whole(thing):
 
 
 def is_place(thing):
-    return is_whole(thing) and LEAST_NUMBER <= thing <= GREATEST_NUMBER
+    return is_whole(thing) and -FARTHEST <= thing <= FARTHEST
 
 
 def is_spot(thing):
