@@ -23,6 +23,11 @@ WORDS_LEFT_OUT = """
     type typing typing_extensions enum Enum IntEnum StrEnum Flag IntFlag Generic Protocol ABC ABCMeta namedtuple
     NamedTuple TypedDict TYPE_CHECKING abstractmethod
 """.split()
+METHODS = """
+    append clear copy count endswith extend find get index insert isalnum isalpha isdigit islower isspace isupper
+    items join keys ljust lower lstrip partition pop remove replace reverse rfind rjust rpartition rsplit rstrip
+    setdefault split splitlines startswith strip update upper values zfill bit_length
+""".split()
 
 
 class Language(unittest.TestCase):
@@ -79,6 +84,22 @@ class Language(unittest.TestCase):
                     self.assertIsInstance(node.ctx, ast.Load, place)
             if isinstance(node, ast.arg):
                 self.assertFalse(node.arg.startswith("_") or hasattr(builtins, node.arg), place)
+
+    def test_methods_are_those_allowed(self):
+        for place, node in self.walk():
+            if isinstance(node, ast.Attribute):
+                self.assertIn(node.attr, METHODS, place)
+
+    def test_is_stands_beside_none_and_truths_alone(self):
+        for place, node in self.walk():
+            if isinstance(node, ast.Compare) and isinstance(node.ops[0], (ast.Is, ast.IsNot)):
+                self.assertIsInstance(node.comparators[0], ast.Constant, place)
+                self.assertIn(node.comparators[0].value, (None, True, False), place)
+
+    def test_no_percent_sign_stands_in_a_text(self):
+        for place, node in self.walk():
+            if isinstance(node, ast.Constant) and isinstance(node.value, str):
+                self.assertNotIn("%", node.value, place)
 
 
 if __name__ == "__main__":

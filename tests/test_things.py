@@ -2,47 +2,11 @@ import copy
 import itertools
 import unittest
 
+from helper import (
+    DART, MORE_STAIRS, NOT_ROUND, PENTAGON, ROUND, ROUND_OF_12, ROUND_OF_13, SQUARE, STAIRS, TRIANGLE, TROUGH,
+    all_turn_left, broken_clauses, least_first, nested, round_by_sides,
+)
 from plotstead.things import is_plot, is_round, is_spot
-from slow import all_turn_left, broken_clauses, round_by_sides
-
-TRIANGLE = ((0, 0), (1, 0), (0, 1))
-SQUARE = ((0, 0), (2, 0), (2, 2), (0, 2))
-DART = ((0, 0), (4, 0), (4, 4), (3, 1))
-# Two of its sides lie on one line, apart from one another.
-TROUGH = ((0, 0), (3, 0), (3, 2), (2, 2), (2, 1), (1, 1), (1, 2), (0, 2))
-STAIRS = (
-    (0, 0), (6, 0), (6, 1), (5, 1), (5, 2), (4, 2),
-    (4, 3), (3, 3), (3, 4), (2, 4), (2, 5), (0, 5),
-)
-PENTAGON = ((-10, 3), (-6, -8), (6, -8), (10, 3), (0, 10))
-
-ROUND = (TRIANGLE, SQUARE, PENTAGON)
-NOT_ROUND = (DART, TROUGH, STAIRS)
-
-ROUND_STEPS = (
-    (3, 0), (6, 3), (3, 6), (0, 3), (-3, 6), (-6, 3),
-    (-3, 0), (-6, -3), (-3, -6), (0, -3), (3, -6), (6, -3),
-)
-
-
-def least_first(corners):
-    start = corners.index(min(corners))
-    return tuple(corners[start:]) + tuple(corners[:start])
-
-
-def walked(steps):
-    """The corners to which the steps lead, the least one first."""
-    corners = [(0, 0)]
-    for step in steps[:-1]:
-        corners.append((corners[-1][0] + step[0], corners[-1][1] + step[1]))
-    return least_first(corners)
-
-
-def nested(depth, kind, core):
-    thing = core
-    for _ in range(depth):
-        thing = kind([thing])
-    return thing
 
 
 class Asked(unittest.TestCase):
@@ -94,21 +58,15 @@ class Corners(Asked):
         self.round_plot(TRIANGLE)
 
     def test_twelve_corners_may_be(self):
-        plot = walked(ROUND_STEPS)
-        self.assertEqual((len(plot), len(STAIRS)), (12, 12))
-        self.round_plot(plot)
+        self.assertEqual((len(ROUND_OF_12), len(STAIRS)), (12, 12))
+        self.round_plot(ROUND_OF_12)
         self.plot_not_round(STAIRS)
 
     def test_thirteen_corners_are_too_many(self):
-        # (6, 3) is taken in two steps, which keeps all else that a round plot needs.
-        steps = ROUND_STEPS[:1] + ((4, 1), (2, 2)) + ROUND_STEPS[2:]
-        corners = walked(steps)
-        self.assertEqual(len(corners), 13)
-        self.assertTrue(round_by_sides(corners))
-        self.breaks([], corners)
-        more_stairs = STAIRS[:-1] + ((1, 5), (0, 6))
-        self.assertEqual(len(more_stairs), 13)
-        self.breaks([], more_stairs)
+        self.assertEqual((len(ROUND_OF_13), len(MORE_STAIRS)), (13, 13))
+        self.assertTrue(round_by_sides(ROUND_OF_13))
+        self.breaks([], ROUND_OF_13)
+        self.breaks([], MORE_STAIRS)
 
     def test_a_corner_does_not_stand_twice(self):
         self.breaks(["twice"], ((0, 0), (2, 0), (1, 1), (2, 2), (0, 2), (1, 1)))

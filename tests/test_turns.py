@@ -1,8 +1,8 @@
 import itertools
 import unittest
 
+from helper import share_a_point
 from plotstead.turns import lies_on, line_parts, sides_meet, turn, turns_left, turns_right
-from slow import share_a_point
 
 SMALL_GRID = [(x, y) for x in range(3) for y in range(3)]
 
