@@ -1,4 +1,4 @@
-"""Which things are spots, which are plots, and which plots are round."""
+"""Which things are spots, which are plots, and which plots are round; a plot's sides and the order of its corners."""
 
 from plotstead.turns import sides_meet, turn, turns_left
 
@@ -41,6 +41,12 @@ def turns_all_round(corners):
 
 def sides_of(corners):
     return [(corners[k - 1], corners[k]) for k in range(len(corners))]
+
+
+# The same way round, begun as a plot's corners begin.
+def least_first(corners):
+    start = corners.index(min(corners))
+    return tuple(corners[start:] + corners[:start])
 
 
 def have_common_corner(one, other):

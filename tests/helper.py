@@ -1,5 +1,7 @@
 """What the tests share: plots to ask about, and the promises told by other, slower means than the package uses."""
 
+import functools
+import itertools
 import random
 from fractions import Fraction
 
@@ -19,6 +21,11 @@ def walked(steps):
 
 def shifted(corners, x, y):
     return tuple((corner[0] + x, corner[1] + y) for corner in corners)
+
+
+def twin(corners):
+    """Equal to the corners, but another thing."""
+    return tuple([tuple(list(corner)) for corner in corners])
 
 
 def nested(depth, kind, core):
@@ -54,8 +61,31 @@ ROUND_OF_12 = walked(ROUND_STEPS)
 ROUND_OF_13 = walked(ROUND_STEPS[:1] + ((4, 1), (2, 2)) + ROUND_STEPS[2:])
 MORE_STAIRS = STAIRS[:-1] + ((1, 5), (0, 6))
 
+# Its inside is one lane that winds inwards, so few of its corners see one another.
+SPIRAL = (
+    (0, 0), (9, 0), (9, 9), (2, 9), (2, 4), (5, 4),
+    (5, 6), (4, 6), (4, 7), (7, 7), (7, 2), (0, 2),
+)
+# Three deep bays side by side; the corners at their feet lie on one line, as do those between them.
+COMB = (
+    (0, 0), (7, 0), (7, 9), (6, 1), (5, 9), (4, 1),
+    (3, 9), (2, 1), (1, 9),
+)
+# Its points lie on one line and its notches on another.
+SAW = (
+    (0, 0), (10, 0), (10, 2), (9, 1), (8, 2), (7, 1),
+    (6, 2), (5, 1), (4, 2), (3, 1), (2, 2), (0, 1),
+)
+# Its corner (2, 2) lies on the line from (0, 0) to (4, 4), its corner (6, 2) on that from (4, 4) to (8, 0).
+BARB = ((0, 0), (4, 1), (8, 0), (6, 2), (7, 5), (4, 4), (1, 5), (2, 2))
+# Cut off three of its outer corners, and what is left goes straight on at others.
+CROSS = (
+    (0, 2), (2, 2), (2, 0), (4, 0), (4, 2), (6, 2),
+    (6, 4), (4, 4), (4, 6), (2, 6), (2, 4), (0, 4),
+)
+
 ROUND = (TRIANGLE, SQUARE, DIAMOND, PENTAGON, ROUND_OF_12)
-NOT_ROUND = (DART, TROUGH, BAY, ZIGZAG, STAIRS)
+NOT_ROUND = (DART, TROUGH, BAY, ZIGZAG, STAIRS, SPIRAL, COMB, SAW, BARB, CROSS)
 
 # Of each clause of 0.5 that speaks of how corners lie, corners that break it alone.
 BREAKING_ONE = {
@@ -96,6 +126,33 @@ def some_plots(count, corners, reach):
             wider = least_first(wider)
             if not broken_clauses(wider):
                 way = wider
+    return plots
+
+
+def small_plots():
+    """Every plot of three to five corners on a grid of three by three."""
+    grid = [(x, y) for x in range(3) for y in range(3)]
+    for corners in (3, 4, 5):
+        for way in itertools.permutations(grid, corners):
+            if way[0] == min(way) and not broken_clauses(way):
+                yield way
+
+
+def some_round_plots(count, corners, reach):
+    """Round plots with so many corners, taken out of the tightest one round spots that lie near a ring."""
+    luck = random.Random(f"round {count} {corners} {reach}")
+    rim = [
+        (x, y)
+        for x in range(-reach, reach + 1)
+        for y in range(-reach, reach + 1)
+        if 7 * reach * reach <= 10 * (x * x + y * y) <= 10 * reach * reach
+    ]
+    plots = []
+    while len(plots) < count:
+        corners_there = tightest(luck.sample(rim, min(len(rim), 4 * corners)))
+        if len(corners_there) >= corners:
+            kept = sorted(luck.sample(range(len(corners_there)), corners))
+            plots.append(least_first([corners_there[k] for k in kept]))
     return plots
 
 
@@ -175,6 +232,50 @@ def round_by_sides(corners):
     return True
 
 
+def tightest(spots):
+    """The corners of the tightest round plot, found one after the other as a cord finds them.
+
+    Where all spots lie on one line, there are fewer than three.
+    """
+    corners = [min(spots)]
+    while True:
+        here = corners[-1]
+        ahead = here
+        for spot in spots:
+            bend = cross(less(ahead, here), less(spot, here))
+            if ahead == here or bend < 0 or bend == 0 and is_farther(here, spot, ahead):
+                ahead = spot
+        if ahead == corners[0]:
+            return tuple(corners)
+        corners.append(ahead)
+
+
+def is_farther(here, one, other):
+    far, near = less(one, here), less(other, here)
+    return far[0] ** 2 + far[1] ** 2 > near[0] ** 2 + near[1] ** 2
+
+
+def by_direction(p, q):
+    """Below 0 where the step p comes ahead of q for one who begins with steps to the right."""
+    halves = [step[0] < 0 or step[0] == 0 and step[1] < 0 for step in (p, q)]
+    return halves[0] - halves[1] or -cross(p, q)
+
+
+def added_by_steps(one, other):
+    """Two round plots added: from the least corners, added, all their sides are gone along as they turn left."""
+    steps = [less(b, a) for a, b in sides(one) + sides(other)]
+    way = [(one[0][0] + other[0][0], one[0][1] + other[0][1])]
+    ahead = []
+    for step in sorted(steps, key=functools.cmp_to_key(by_direction)):
+        if ahead and cross(ahead[-1], step) == 0:
+            step = (ahead[-1][0] + step[0], ahead[-1][1] + step[1])
+            ahead.pop()
+        ahead.append(step)
+    for step in ahead[:-1]:
+        way.append((way[-1][0] + step[0], way[-1][1] + step[1]))
+    return tuple(way)
+
+
 def sides(corners):
     return [(corners[k], corners[(k + 1) % len(corners)]) for k in range(len(corners))]
 
@@ -198,6 +299,11 @@ def spots_round(corners, margin):
         for x in range(min(xs) - margin, max(xs) + margin + 1)
         for y in range(min(ys) - margin, max(ys) + margin + 1)
     ]
+
+
+def spots_of(corners):
+    """All spots within and on the fence."""
+    return [spot for spot in spots_round(corners, 0) if place(corners, spot) != "out"]
 
 
 def counted(corners):

@@ -1,10 +1,10 @@
 import copy
-import itertools
 import unittest
 
 from helper import (
     BAY, DART, DIAMOND, MORE_STAIRS, NOT_ROUND, PENTAGON, ROUND, ROUND_OF_12, ROUND_OF_13, SQUARE, STAIRS, TRIANGLE,
-    TROUGH, ZIGZAG, broken_clauses, counted, place, shifted, some_plots, spots_round, twice_signed_area,
+    TROUGH, ZIGZAG, broken_clauses, counted, place, shifted, small_plots, some_plots, spots_round, twice_signed_area,
+    twin,
 )
 from plotstead.areas import fence_stakes, inner_stakes, twice_area, where
 
@@ -14,14 +14,6 @@ WIDEST = ((-500, -500), (500, -500), (500, 500), (-500, 500))
 HALF_OF_WIDEST = ((-500, -500), (500, -500), (-500, 500))
 # Long and low, so that its stakes can be counted one by one.
 LOW = ((-500, -499), (-3, -500), (500, -500), (499, -497), (1, -498), (-498, -496))
-
-
-def small_plots():
-    grid = [(x, y) for x in range(3) for y in range(3)]
-    for corners in (3, 4, 5):
-        for way in itertools.permutations(grid, corners):
-            if way[0] == min(way) and not broken_clauses(way):
-                yield way
 
 
 class Measured(unittest.TestCase):
@@ -228,8 +220,7 @@ class MeasuredAgain(unittest.TestCase):
 
     def test_equal_plots_are_told_equally(self):
         for plot in PLOTS:
-            twin = tuple([tuple(list(spot)) for spot in plot])
-            self.assertEqual(self.asked(twin), self.asked(plot))
+            self.assertEqual(self.asked(twin(plot)), self.asked(plot))
 
 
 if __name__ == "__main__":

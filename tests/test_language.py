@@ -59,6 +59,50 @@ class Language(unittest.TestCase):
                 self.assertRegex(node.module, r"\Aplotstead\.", place)
                 self.assertNotIn("*", [alias.name for alias in node.names], place)
 
+    def drawn(self):
+        """Of each file, the files from which it draws names, with these names."""
+        drawn = {path.stem: {} for path in FILES}
+        for path in FILES:
+            for node in ast.walk(ast.parse(path.read_text(encoding="utf-8"))):
+                if isinstance(node, ast.ImportFrom):
+                    drawn[path.stem][node.module.split(".")[1]] = [alias.name for alias in node.names]
+        return drawn
+
+    def test_names_are_drawn_from_the_files_that_define_them(self):
+        made = {path.stem: self.made_at_the_top(path) for path in FILES}
+        for stem, sources in self.drawn().items():
+            for source, names in sources.items():
+                self.assertLessEqual(set(names), made[source], stem)
+
+    def made_at_the_top(self, path):
+        body = ast.parse(path.read_text(encoding="utf-8")).body
+        made = [node.name for node in body if isinstance(node, (ast.FunctionDef, ast.ClassDef))]
+        made += [node.targets[0].id for node in body if isinstance(node, ast.Assign)]
+        self.assertEqual(len(set(made)), len(made), path.name)
+        return set(made)
+
+    def test_no_two_files_draw_from_one_another(self):
+        drawn = self.drawn()
+        while drawn:
+            free = [stem for stem, sources in drawn.items() if not set(sources) & set(drawn)]
+            self.assertTrue(free, drawn)
+            drawn = {stem: sources for stem, sources in drawn.items() if stem not in free}
+
+    def test_no_local_is_called_like_an_import(self):
+        drawn = self.drawn()
+        for path in FILES:
+            names = {name for some in drawn[path.stem].values() for name in some}
+            for node in ast.walk(ast.parse(path.read_text(encoding="utf-8"))):
+                if isinstance(node, ast.arg):
+                    self.assertNotIn(node.arg, names, path.name)
+                if isinstance(node, ast.Name) and isinstance(node.ctx, ast.Store):
+                    self.assertNotIn(node.id, names, path.name)
+
+    def test_an_assignment_has_one_target(self):
+        for place, node in self.walk():
+            if isinstance(node, ast.Assign):
+                self.assertEqual([isinstance(target, ast.Name) for target in node.targets], [True], place)
+
     def test_functions_are_short_and_plain(self):
         for place, node in self.walk():
             if isinstance(node, ast.FunctionDef):
